@@ -1,14 +1,7 @@
 package expr
 
 import (
-	"go/parser"
-	"go/token"
 	"iter"
-	"os"
-	"slices"
-	"strconv"
-	"strings"
-	"testing"
 
 	"organon/api"
 )
@@ -28,26 +21,3 @@ var (
 	_ func(api.Expr, []int, api.Expr) (api.Expr, api.Errno) = Put
 	_ func(api.Expr) iter.Seq2[int, api.Expr]               = All
 )
-
-// The chapter: of the project's packages, this one imports word and api alone.
-func TestImportsOnlyLayersBelow(t *testing.T) {
-	files, err := os.ReadDir(".")
-	if err != nil {
-		t.Fatal(err)
-	}
-	for _, f := range files {
-		if !strings.HasSuffix(f.Name(), ".go") || strings.HasSuffix(f.Name(), "_test.go") {
-			continue
-		}
-		tree, err := parser.ParseFile(token.NewFileSet(), f.Name(), nil, parser.ImportsOnly)
-		if err != nil {
-			t.Fatal(err)
-		}
-		for _, i := range tree.Imports {
-			path, err := strconv.Unquote(i.Path.Value)
-			if err != nil || !slices.Contains([]string{"organon/api", "organon/word", "cmp", "iter", "math"}, path) {
-				t.Errorf("%s imports %s", f.Name(), path)
-			}
-		}
-	}
-}

@@ -187,7 +187,7 @@ func TestCaughtBySubstitution(t *testing.T) {
 // P4.5
 func TestCaughtConsequences(t *testing.T) {
 	r := rand.New(rand.NewSource(45))
-	for _, a := range samples() {
+	for _, a := range valid() {
 		constant, other := node(api.App, 3, node(api.App, 4)), randomTerm(r, 3)
 		for x := range api.MaxVar + 1 {
 			if is, _ := NotFree(x, a); is {
@@ -213,9 +213,9 @@ func TestCaughtWrong(t *testing.T) {
 		catches(t, a, 0, e, 0, want)
 		catches(t, x, 64, e, 0, api.ErrArg)
 		catches(t, e, -1, a, 0, api.ErrArg)
-		for fault, list := range wrong() {
-			catches(t, list[0], 0, e, 0, fault)
-		}
+		eachWrong(func(other api.Expr, first api.Errno) {
+			catches(t, other, 0, e, 0, first)
+		})
 	})
 	for _, formula := range []string{"P0", "P0(x1)", "x1 = x1", "!P0", "(P0 > P0)", "(P0 & P0)", "(P0 | P0)", "@x1 P0", "?x1 P0"} {
 		for _, where := range []string{exampleText, "x0", "f0", "P1"} {

@@ -7,10 +7,6 @@ import (
 	"organon/expr"
 )
 
-func isZero(e api.Expr) bool {
-	return e.Kind == 0 && e.Id == 0 && len(e.Kids) == 0
-}
-
 // closes fails unless Close(a) is want, or returns fault.
 func closes(t *testing.T, a, want api.Expr, fault api.Errno) {
 	t.Helper()
@@ -115,7 +111,7 @@ func TestCloseWrong(t *testing.T) {
 
 // P4.5: the closure has no free variables, and is its own closure.
 func TestCloseConsequences(t *testing.T) {
-	for _, a := range samples() {
+	for _, a := range valid() {
 		closed, fault := Close(a)
 		if fault != api.OK {
 			if expr.IsFormula(a) || fault != api.ErrSort {

@@ -5,48 +5,12 @@ import (
 
 	"organon/api"
 	"organon/expr"
+	"organon/samples"
 )
-
-// roomy returns e with spare capacity behind each list of Kids, in which something is written.
-func roomy(e api.Expr) api.Expr {
-	kids := make([]api.Expr, 0, len(e.Kids)+1)
-	for _, kid := range e.Kids {
-		kids = append(kids, roomy(kid))
-	}
-	kids[:cap(kids)][len(kids)] = node(77, 77)
-	return node(e.Kind, e.Id, kids...)
-}
-
-// untouched reports whether e, which roomy made, still has what was written behind each list.
-func untouched(e api.Expr) bool {
-	if cap(e.Kids) != len(e.Kids)+1 || e.Kids[:cap(e.Kids)][len(e.Kids)].Kind != 77 {
-		return false
-	}
-	for _, kid := range e.Kids {
-		if !untouched(kid) {
-			return false
-		}
-	}
-	return true
-}
-
-// lists notes the memory of all lists in e, and reports whether some of it was noted already.
-func lists(noted map[*api.Expr]bool, e api.Expr) bool {
-	shared := false
-	whole := e.Kids[:cap(e.Kids)]
-	for i := range whole {
-		shared = shared || noted[&whole[i]]
-		noted[&whole[i]] = true
-	}
-	for _, kid := range e.Kids {
-		shared = lists(noted, kid) || shared
-	}
-	return shared
-}
 
 // R4: no call changes its arguments, nor what is behind their lists.
 func TestArgumentsUntouched(t *testing.T) {
-	for _, e := range samples()[:200] {
+	for _, e := range valid()[:200] {
 		a, term := roomy(e), roomy(node(api.App, 0, node(api.Var, 1), node(api.Var, 62)))
 		kept := text(e)
 		Vars(a)
@@ -56,7 +20,7 @@ func TestArgumentsUntouched(t *testing.T) {
 		Caught(term, 0, a)
 		FreeFor(term, 0, a)
 		Close(a)
-		if !untouched(a) || text(a) != kept || !untouched(term) || text(term) != "f0(x1, x62)" {
+		if !samples.Untouched(a, kept) || !samples.Untouched(term, "f0(x1, x62)") {
 			t.Fatalf("%s is changed", kept)
 		}
 	}
@@ -64,16 +28,15 @@ func TestArgumentsUntouched(t *testing.T) {
 
 // R4: the closure is new memory, also where nothing is free and where the formula shares its memory.
 func TestCloseAnew(t *testing.T) {
-	atom := roomy(read(t, "P0(x1, f0(x2), f1(x2))"))
-	closed := roomy(read(t, "@x1 P0(x1, f0(x1))"))
-	for _, a := range []api.Expr{atom, closed, node(api.Imp, 0, atom, atom), doubled(4, closed), roomy(read(t, "P0"))} {
-		noted := map[*api.Expr]bool{}
-		lists(noted, a)
-		for range 2 {
-			got, fault := Close(a)
-			if fault != api.OK || lists(noted, got) {
-				t.Fatalf("Close(%s): memory is shared, %d", text(a), fault)
-			}
+	for _, s := range []string{"P0(x1, f0(x2), f1(x2))", "@x1 P0(x1, f0(x1))", "P0"} {
+		part := roomy(read(t, s))
+		if got, fault := Close(doubled(4, part)); fault != api.OK || !samples.Apart(got) {
+			t.Errorf("Close of %s and itself: memory is shared, %d", s, fault)
+		}
+		first, _ := Close(part)
+		second, fault := Close(part)
+		if fault != api.OK || !samples.Apart(first, second, part) {
+			t.Errorf("Close(%s): memory is shared, %d", s, fault)
 		}
 	}
 }

@@ -109,7 +109,7 @@ func TestSetsAtLimits(t *testing.T) {
 
 // P4.1, by its words.
 func TestSetsByWords(t *testing.T) {
-	for _, e := range samples() {
+	for _, e := range valid() {
 		vars, free, bound := uint64(0), uint64(0), uint64(0)
 		for _, s := range spots(e) {
 			switch {
@@ -155,7 +155,7 @@ func TestNotFreeExamples(t *testing.T) {
 
 // P4.2: each variable.
 func TestNotFree(t *testing.T) {
-	for _, e := range append(samples(), read(t, exampleText), read(t, "@x0 P0(x0)"), read(t, "f0(x0, x63)")) {
+	for _, e := range append(valid(), read(t, exampleText), read(t, "@x0 P0(x0)"), read(t, "f0(x0, x63)")) {
 		set, _ := Free(e)
 		for x := range api.MaxVar + 1 {
 			if is, fault := NotFree(x, e); is != (set>>x&1 == 0) || fault != api.OK {

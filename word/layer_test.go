@@ -1,14 +1,6 @@
 package word
 
-import (
-	"go/parser"
-	"go/token"
-	"os"
-	"strings"
-	"testing"
-
-	"organon/api"
-)
+import "organon/api"
 
 // The calls have just the signatures of the chapter.
 var (
@@ -31,25 +23,3 @@ var (
 	_ func([]byte) uint64                     = Digest
 	_ func(uint64, int) (uint64, api.Errno)   = Cut
 )
-
-// The chapter: the package imports only package api.
-func TestImportsOnlyApi(t *testing.T) {
-	files, err := os.ReadDir(".")
-	if err != nil {
-		t.Fatal(err)
-	}
-	for _, f := range files {
-		if !strings.HasSuffix(f.Name(), ".go") || strings.HasSuffix(f.Name(), "_test.go") {
-			continue
-		}
-		tree, err := parser.ParseFile(token.NewFileSet(), f.Name(), nil, parser.ImportsOnly)
-		if err != nil {
-			t.Fatal(err)
-		}
-		for _, i := range tree.Imports {
-			if i.Path.Value != `"organon/api"` {
-				t.Errorf("%s imports %s", f.Name(), i.Path.Value)
-			}
-		}
-	}
-}
