@@ -12,7 +12,7 @@ import (
 func TestArgumentsUntouched(t *testing.T) {
 	for _, e := range valid()[:200] {
 		a, term := roomy(e), roomy(node(api.App, 0, node(api.Var, 1), node(api.Var, 62)))
-		kept := text(e)
+		kept := samples.Text(e)
 		Vars(a)
 		Free(a)
 		Bound(a)

@@ -3,10 +3,8 @@ package free
 import (
 	"math/rand"
 	"slices"
-	"testing"
 
 	"organon/api"
-	"organon/expr"
 	"organon/samples"
 )
 
@@ -16,7 +14,8 @@ const exampleText = "(@x1 P0(x0, x1) > P1(x1))"
 // The samples under short names.
 var (
 	node           = samples.Node
-	text           = samples.Text
+	read           = samples.Must
+	text           = samples.Short
 	bits           = samples.Bits
 	isZero         = samples.IsZero
 	within         = samples.Within
@@ -31,16 +30,6 @@ var (
 	randomTerm     = samples.AnyTerm
 	randomFormula  = samples.AnyFormula
 )
-
-// read returns the formula or term whose text s is.
-func read(t *testing.T, s string) api.Expr {
-	t.Helper()
-	e := samples.Read(s)
-	if expr.Right(e) != api.OK {
-		t.Fatalf("%q is no formula and no term", s)
-	}
-	return e
-}
 
 // valid returns valid expressions of many shapes.
 func valid() []api.Expr {

@@ -26,10 +26,32 @@ func Read(s string) api.Expr {
 	return e
 }
 
+// Failer is a test that can be given up.
+type Failer interface {
+	Helper()
+	Fatalf(format string, args ...any)
+}
+
+// Must returns the formula or term whose text s is; if there is none, the test is given up.
+func Must(t Failer, s string) api.Expr {
+	t.Helper()
+	e := Read(s)
+	if IsZero(e) {
+		t.Fatalf("%q is no formula and no term", s)
+	}
+	return e
+}
+
 // Text returns the text of e, or nothing if e is not valid.
 func Text(e api.Expr) string {
 	s, _ := parse.Print(e)
 	return s
+}
+
+// Short returns the text of e, or its beginning, as a test tells it.
+func Short(e api.Expr) string {
+	s := Text(e)
+	return s[:min(len(s), 100)]
 }
 
 // IsZero reports whether e is the zero value, but for an empty list.

@@ -34,6 +34,28 @@ func TestSamplesAreValid(t *testing.T) {
 	}
 }
 
+// failer is a test that only notes whether it was given up.
+type failer struct {
+	failed bool
+}
+
+func (f *failer) Helper() {}
+
+func (f *failer) Fatalf(string, ...any) { f.failed = true }
+
+// A text that can't be read is no sample.
+func TestMust(t *testing.T) {
+	for s, ends := range map[string]bool{"P0(x1, f2)": false, "f2(x1)": false, "P0(": true, "": true, "f2 > f2": true} {
+		f := &failer{}
+		if e := Must(f, s); f.failed != ends || !ends && Text(e) != s {
+			t.Errorf("%q: %s, %v", s, Text(e), f.failed)
+		}
+	}
+	if long := Short(Sized(1000)); len(long) != 100 || Short(Read("P0")) != "P0" {
+		t.Errorf("%d bytes: %s", len(long), long)
+	}
+}
+
 // Apart finds lists that share memory, also behind their ends.
 func TestApart(t *testing.T) {
 	e := Read("P0(f0(x0), x1)")

@@ -12,28 +12,14 @@ import (
 
 // The samples under short names.
 var (
+	read   = samples.Must
+	text   = samples.Short
 	node   = samples.Node
 	within = samples.Within
 	sized  = samples.Sized
 	first  = samples.First
 	roomy  = samples.Roomy
 )
-
-// text returns the text of e, or its beginning.
-func text(e api.Expr) string {
-	s := samples.Text(e)
-	return s[:min(len(s), 100)]
-}
-
-// read returns the formula or term whose text s is.
-func read(t *testing.T, s string) api.Expr {
-	t.Helper()
-	e := samples.Read(s)
-	if expr.Right(e) != api.OK {
-		t.Fatalf("%q is no formula and no term", s)
-	}
-	return e
-}
 
 // pairs returns a list of pairs: the variables x, x + 1 and so on, with the terms whose texts are given.
 func pairs(t *testing.T, x int, terms ...string) []api.Pair {
