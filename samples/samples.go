@@ -123,3 +123,25 @@ func First(count int) api.Expr {
 	}
 	return list[0]
 }
+
+// Lined returns the text with these lines, each of them terminated.
+func Lined(lines ...string) string {
+	text := ""
+	for _, line := range lines {
+		text += line + "\n"
+	}
+	return text
+}
+
+// Self returns the lines of a unit that proves (P0 > P0).
+func Self() []string {
+	return []string{
+		"cites",
+		"states (P0 > P0)",
+		"1 (P0 > ((P0 > P0) > P0)) : axiom 1",
+		"2 ((P0 > ((P0 > P0) > P0)) > ((P0 > (P0 > P0)) > (P0 > P0))) : axiom 2",
+		"3 ((P0 > (P0 > P0)) > (P0 > P0)) : detach 1 2",
+		"4 (P0 > (P0 > P0)) : axiom 1",
+		"5 (P0 > P0) : detach 4 3",
+	}
+}
